@@ -99,6 +99,9 @@ func slow(id int, w, place uint64, sign int64) uint64 {
 // groups returns words around every edge of the table, and others.
 func groups() []uint64 {
 	l := []uint64{0, 0xFFFFFFFF, 0x48000000, 0x48000001, 0x48000002, 0x48000003, 0x4BFFFFFD, 0x4BFFFFFE, 0x4BFFFFFF, 0x4C000001, 0x47FFFFFD}
+	for _, n := range []uint64{1<<17 - 2, 1<<17 - 1, 1 << 17, 1<<17 + 1, 1<<21 - 1<<17 - 1, 1<<21 - 1<<17, 1<<21 - 1<<17 + 1, 1<<18 - 1, 1 << 18} {
+		l = append(l, setBits(setBits(0x90000000, 5, 23, n/4), 29, 30, n%4))
+	}
 	for _, v := range samples.Numbers(1, 6000, 1<<31) {
 		r := uint64(v) * 0x9E3779B1 % (1 << 32)
 		top := []uint64{0x48000000, 0xEB000000, 0x40000000, 0x7FC00000, 0x40400000, 0x7F800000, 0x94000000, 0x90000000, 0x90E00000, 0x90F00000, 0xB0100000, 0xF0EFFFE0}[v%12]

@@ -189,6 +189,42 @@ func TestAsChunksP11_1(t *testing.T) {
 	}
 }
 
+// Parts whose chunk is just as long as a stored one, or one byte shorter.
+func TestEdgeOfStoringP11_1(t *testing.T) {
+	shorter, same := 0, 0
+	for seed := range 1500 {
+		data := samples.Few(seed, 12+seed%60, 2+seed%9)
+		b := pack(t, data, options())
+		if !bytes.Equal(b, slow(data, options())) {
+			t.Fatalf("%q: different", data)
+		}
+		c, _ := model.New(3, 0, 2)
+		f, _ := finder.New(data, 4096, 64)
+		l, _, _ := parse.Symbols(f, data, 0, len(data), c.Repeats())
+		e := rcenc.New()
+		at := 0
+		for _, s := range l {
+			c.Put(e, data[:at], s)
+			at += max(1, s.Len)
+		}
+		switch 6 + len(e.Bytes()) - len(data) {
+		case 3:
+			same++
+			if b[0] != 1 {
+				t.Errorf("%q must be stored", data)
+			}
+		case 2:
+			shorter++
+			if b[0] != 224 {
+				t.Errorf("%q must not be stored", data)
+			}
+		}
+	}
+	if shorter == 0 || same == 0 {
+		t.Errorf("%d and %d such parts", shorter, same)
+	}
+}
+
 // The greatest parts, of which both sizes need all their bits.
 func TestGreatPartsP11_1(t *testing.T) {
 	o := options()

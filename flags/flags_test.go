@@ -193,7 +193,7 @@ func TestThereAndBackP16_5(t *testing.T) {
 				t.Errorf("the head with %d: %d, %d", check, got, e)
 			}
 		}
-		for _, size := range []int{4, 8, 4096, 1 << 34} {
+		for _, size := range []int{4, 8, 4096, 4 * 0x81020304, 1 << 34} {
 			f, _ := Foot(check, size)
 			if got, many, e := ReadFoot(append(slices.Clone(f), 1, 2, 3)); e != api.OK || got != check || many != size {
 				t.Errorf("the foot with %d, %d: %d, %d, %d", check, size, got, many, e)

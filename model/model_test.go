@@ -236,6 +236,31 @@ func TestAsSpelledP7_1(t *testing.T) {
 	}
 }
 
+// Histories that do not follow from one another: shorter than the repeats, or just as long, or empty.
+func TestShortHistoriesP7_2(t *testing.T) {
+	for seed, l := range properties() {
+		c, _ := New(l[0], l[1], l[2])
+		p := newSpeller(l[0], l[1], l[2])
+		for i, v := range samples.Numbers(seed, 6000, 1<<30) {
+			history := samples.Noise(i, v%4)
+			s := api.Symbol{Byte: byte(v>>8%3 - 1)}
+			if v>>4%3 == 0 {
+				s = api.Symbol{Kind: api.Match, Len: 2, Dist: 1 + v>>6%4}
+			}
+			for k := range history { // few bytes, so that their probabilities are used again
+				history[k] = byte(int(history[k])%3 - 1)
+			}
+			r := &recorder{}
+			p.calls = nil
+			got := c.Code(r, history, s)
+			p.symbol(history, s)
+			if got != s || !slices.Equal(r.calls, p.calls) {
+				t.Fatalf("%v after %v: %v, not %v", s, history, r.calls, p.calls)
+			}
+		}
+	}
+}
+
 // Distances up to the greatest, which only a recorder can be asked for without as long a history.
 func TestFarDistancesP7_2(t *testing.T) {
 	for i := range 32 {

@@ -9,6 +9,7 @@ import (
 	"time"
 
 	"winepress/api"
+	"winepress/pool"
 	"winepress/samples"
 	"winepress/stream"
 )
@@ -187,6 +188,24 @@ func TestPickedT1T4P22_2(t *testing.T) {
 			if got, n, e := Picked(data, o, workers, room, picks(seed, few)); e != api.OK || n != few || len(got) != 0 {
 				t.Fatalf("seed %d, %d picks: %d bytes, %d steps, %d", seed, few, len(got), n, e)
 			}
+		}
+	}
+}
+
+// A part is packed once, by the worker that finishes it, with that step.
+func TestPackedWhenFinishedP22_2(t *testing.T) {
+	const workers = 3
+	parts := make([][]byte, 12)
+	for n := range 4*len(parts) + 1 {
+		p, _ := pool.New(len(parts), workers, 2)
+		calls := 0
+		pack := func([]byte) packed {
+			calls++
+			return packed{}
+		}
+		l, steps, e := follow(p, parts, workers, picks(6, n), pack)
+		if e != api.OK || steps != n || len(l) != len(p.Out()) || calls != len(p.Out())+p.Waiting() {
+			t.Errorf("%d picks: %d steps, %d collected, %d packed, %d wait, %d", n, steps, len(l), calls, p.Waiting(), e)
 		}
 	}
 }

@@ -168,6 +168,19 @@ func TestOutOfBytesP6_2(t *testing.T) {
 	}
 }
 
+// A Range of exactly 2^24 is large enough: no byte is needed after the second bit.
+func TestEdgeOfRangeP6_1(t *testing.T) {
+	e := rcenc.New()
+	e.Bit(2032, 1)
+	e.Bit(1024, 0)
+	d := mustNew(t, e.Bytes())
+	one, _ := d.Bit(2032, 0)
+	two, _ := d.Bit(1024, 0)
+	if one != 1 || two != 0 || d.Out() || !d.Done() {
+		t.Errorf("%d, %d, out %v, done %v", one, two, d.Out(), d.Done())
+	}
+}
+
 func TestNotDoneP6_2(t *testing.T) {
 	if !mustNew(t, []byte{0, 0, 0, 0, 0}).Done() {
 		t.Error("no bits: done")

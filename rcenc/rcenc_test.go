@@ -155,6 +155,23 @@ func TestLongCarryP5_1(t *testing.T) {
 	}
 }
 
+// A Range of exactly 2^24 is large enough: no multiplication follows the second bit.
+func TestEdgeOfRangeP5_1(t *testing.T) {
+	e, s := New(), newSlow()
+	for _, c := range [][2]int{{2032, 1}, {1024, 0}} {
+		e.Bit(uint16(c[0]), c[1])
+		s.bit(uint16(c[0]), c[1])
+	}
+	if s.span != 1<<24 || s.shifts != 0 || len(e.Bytes()) != 5 {
+		t.Fatalf("Range %d after %d multiplications: %v", s.span, s.shifts, e.Bytes())
+	}
+	e.Plain(5, 3)
+	s.plain(5, 3)
+	if !slices.Equal(e.Bytes(), s.bytes()) {
+		t.Errorf("%v, not %v", e.Bytes(), s.bytes())
+	}
+}
+
 func TestPlainEdgesP5_1(t *testing.T) {
 	for _, n := range []int{-1 << 63, -1, 0} {
 		e := New()

@@ -67,6 +67,17 @@ func cubeFloor(n int64) int64 {
 	return r
 }
 
+// The number of bits has 64 bits: more than 2^29 bytes need those above the lowest 32.
+func TestLongLengthP3_1(t *testing.T) {
+	h := New()
+	h.count = 0x123456789ABC0 << 6
+	h.pad()
+	want := big.NewInt(0x123456789ABC0 << 9).FillBytes(make([]byte, 8))
+	if !slices.Equal(h.block[56:], want) {
+		t.Errorf("the number of bits: %v, not %v", h.block[56:], want)
+	}
+}
+
 func TestHashP3_1(t *testing.T) {
 	h := New()
 	if h.Sum() != Sum(nil) {

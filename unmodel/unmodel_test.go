@@ -149,6 +149,9 @@ func TestFarRepeatP8_1(t *testing.T) {
 	history := samples.Noise(4, 5000)
 	prepare := func() *model.Coder {
 		c := coder(t, 1, 3, 4)
+		for i := range 300 { // probabilities that differ by the byte that is as far back
+			write(t, c, history[:4321+i], match(2, 4321), lit(history[i+2]))
+		}
 		write(t, c, history, match(2, 4321))
 		return c
 	}
