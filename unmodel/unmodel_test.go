@@ -152,7 +152,7 @@ func TestFarRepeatP8_1(t *testing.T) {
 		for i := range 300 { // probabilities that differ by the byte that is as far back
 			write(t, c, history[:4321+i], match(2, 4321), lit(history[i+2]))
 		}
-		write(t, c, history, match(2, 4321))
+		write(t, c, history, match(2, 1), match(2, 2), match(2, 3), match(2, 4321))
 		return c
 	}
 	for _, cut := range []int{0, 1, 3, 16, 600} {
